@@ -1,0 +1,1 @@
+"""Holeslides: numbers in cells, and holes filled in any order."""

@@ -1,0 +1,42 @@
+"""Shapes: their corners, columns and hooks, and how many sorted fillings they have."""
+
+from math import factorial
+
+from holeslides.checks import check_shape
+
+
+def corners(shape):
+    """The list of the rows of all corners, ascending."""
+    check_shape(shape)
+    below = shape[1:] + [0]
+    return [index + 1 for index, length in enumerate(shape) if length > below[index]]
+
+
+def turned_over(shape):
+    """The list of the lengths of the columns of a shape."""
+    check_shape(shape)
+    return column_lengths(shape)
+
+
+def hooks(shape):
+    """The list of the lists of the hooks of the rows of a shape."""
+    check_shape(shape)
+    columns = column_lengths(shape)
+    return [
+        [(length - column) + (columns[column] - row) - 1 for column in range(length)]
+        for row, length in enumerate(shape)
+    ]
+
+
+def count_sorted(shape):
+    """The number of the sorted fillings of a shape by the numbers from 1 on."""
+    together = 1
+    for row in hooks(shape):
+        for hook in row:
+            together = together * hook
+    return factorial(sum(shape)) // together
+
+
+def column_lengths(shape):
+    """The lengths of the columns of a shape that is checked before."""
+    return [sum(1 for length in shape if length > column) for column in range(shape[0])]
