@@ -1,9 +1,11 @@
 """The checks of arguments that several modules share."""
 
-from holeslides.errors import InvalidMissing, InvalidRows, InvalidShape, NotSorted
+from holeslides.errors import InvalidMissing, InvalidRows, InvalidShape, InvalidWord, NotSorted
 
 # A shape or a piece has at most so many rows, and each reaches at most so far.
 MOST = 8
+# A word has at most so many letters.
+MOST_LETTERS = 40
 
 
 def is_whole(thing):
@@ -19,6 +21,11 @@ def are_whole(things):
 def is_short_list(things):
     """Whether a thing is a list of 1 to 8 things."""
     return isinstance(things, list) and 1 <= len(things) <= MOST
+
+
+def is_one_of(row, rows):
+    """Whether a thing is a whole number that is among these rows."""
+    return is_whole(row) and row in rows
 
 
 def first_out_of_line(things, least):
@@ -62,6 +69,24 @@ def check_rows_beside(missing, rows):
         furthest = missing[index] + len(row)
 
 
+def check_rows_alone(rows):
+    """Raise InvalidRows if these are not the rows of a shape, filled in any order."""
+    if not is_short_list(rows):
+        raise InvalidRows(None)
+    furthest = MOST
+    for index, row in enumerate(rows):
+        if not are_whole(row) or not 1 <= len(row) <= furthest:
+            raise InvalidRows(index)
+        furthest = len(row)
+
+
+def check_ascending(missing, rows):
+    """Raise NotSorted if a piece, which is checked before, is not sorted."""
+    row = first_unsorted(missing, rows)
+    if row is not None:
+        raise NotSorted(row)
+
+
 def check_piece(missing, rows):
     """Raise an error if this is not a piece, sorted or not."""
     check_missing(missing)
@@ -71,9 +96,22 @@ def check_piece(missing, rows):
 def check_sorted_piece(missing, rows):
     """Raise an error if this is not a sorted piece."""
     check_piece(missing, rows)
-    row = first_unsorted(missing, rows)
-    if row is not None:
-        raise NotSorted(row)
+    check_ascending(missing, rows)
+
+
+def check_straight(rows):
+    """Raise an error if these are not the rows of a straight piece."""
+    check_rows_alone(rows)
+    check_ascending([0] * len(rows), rows)
+
+
+def check_word(word):
+    """Raise InvalidWord if this is not a word."""
+    if not isinstance(word, list) or not 1 <= len(word) <= MOST_LETTERS:
+        raise InvalidWord(None)
+    for index, letter in enumerate(word):
+        if not is_whole(letter):
+            raise InvalidWord(index)
 
 
 def first_unsorted(missing, rows):

@@ -8,8 +8,7 @@ from holeslides.checks import check_shape
 def corners(shape):
     """The list of the rows of all corners, ascending."""
     check_shape(shape)
-    below = shape[1:] + [0]
-    return [index + 1 for index, length in enumerate(shape) if length > below[index]]
+    return corner_rows(shape)
 
 
 def turned_over(shape):
@@ -35,6 +34,12 @@ def count_sorted(shape):
         for hook in row:
             together = together * hook
     return factorial(sum(shape)) // together
+
+
+def corner_rows(lengths):
+    """The rows, ascending, that have a last cell and none below it; rows without cells may come last."""
+    below = lengths[1:] + [0]
+    return [index + 1 for index, length in enumerate(lengths) if length > below[index]]
 
 
 def column_lengths(shape):

@@ -6,6 +6,18 @@ import unittest
 FUNCTIONS = {
     "shapes": {"corners": ["shape"], "turned_over": ["shape"], "hooks": ["shape"], "count_sorted": ["shape"]},
     "pieces": {"is_sorted": ["missing", "rows"], "word_of": ["missing", "rows"]},
+    "slides": {
+        "holes": ["missing"], "ends": ["missing", "rows"], "slide": ["missing", "rows", "row"],
+        "slide_back": ["missing", "rows", "row"], "straightened": ["missing", "rows"],
+        "straightened_by": ["missing", "rows", "order"], "count_orders": ["missing"],
+    },
+    "words": {
+        "straight_of": ["word"], "exchanges": ["word"], "are_alike": ["word", "other"], "chain": ["word", "other"],
+        "longest": ["word", "many"], "longest_falling": ["word", "many"], "a_pick": ["word"],
+    },
+    "insertion": {
+        "put_in": ["rows", "number"], "take_out": ["rows", "row"], "pair_of": ["word"], "word_from": ["rows", "order"],
+    },
 }
 
 

@@ -1,12 +1,11 @@
 import copy
-import itertools
 import random
 import time
 import unittest
 
 from holeslides.errors import InvalidMissing, InvalidRows, NotSorted
 from holeslides.pieces import is_sorted, word_of
-from tests.things import all_lengths, all_missing, cells_of, no_lists, no_numbers, unsorted_rows
+from tests.things import all_lengths, all_missing, cells_of, fillings, no_lists, no_numbers, unsorted_rows
 
 # Equal numbers stand along the rows of this piece, and missing cells are above some of them.
 MISSING = [2, 1, 0]
@@ -16,13 +15,6 @@ ROWS = [[2], [1, 4], [1, 3, 5]]
 def full_square():
     """Eight rows of eight cells."""
     return [list(range(row, row + 8)) for row in range(8)]
-
-
-def fillings(lengths, greatest):
-    """All rows of such lengths with numbers from 1 to `greatest`."""
-    for numbers in itertools.product(range(1, greatest + 1), repeat=sum(lengths)):
-        left = list(numbers)
-        yield [[left.pop(0) for _ in range(length)] for length in lengths]
 
 
 def word_by_cells(missing, rows):

@@ -1,4 +1,6 @@
-"""Things that several tests use: wrong arguments, shapes, pieces cell by cell."""
+"""Things that several tests use: wrong arguments, shapes, pieces cell by cell, words."""
+
+import itertools
 
 
 class LikeAList:
@@ -87,3 +89,96 @@ def unsorted_rows(missing, rows):
         if (row - 1, column) in cells and number <= cells[row - 1, column]:
             wrong.add(row)
     return sorted(wrong)
+
+
+def fillings(lengths, greatest):
+    """All rows of such lengths with numbers from 1 to `greatest`."""
+    for numbers in itertools.product(range(1, greatest + 1), repeat=sum(lengths)):
+        left = list(numbers)
+        yield [[left.pop(0) for _ in range(length)] for length in lengths]
+
+
+def small_pieces(most_rows, furthest, most_numbers, greatest):
+    """All sorted pieces within such limits, with numbers from 1 to `greatest`."""
+    for missing in all_missing(most_rows, furthest):
+        for lengths in all_lengths(missing, furthest):
+            if sum(lengths) <= most_numbers:
+                for rows in fillings(lengths, greatest):
+                    if not unsorted_rows(missing, rows):
+                        yield missing, rows
+
+
+def small_straight(most_numbers, greatest):
+    """The rows of all straight pieces of so many numbers at most, from 1 to `greatest`."""
+    for shape in all_shapes(most_numbers, most_numbers):
+        if sum(shape) <= most_numbers:
+            for rows in fillings(shape, greatest):
+                if not unsorted_rows([0] * len(rows), rows):
+                    yield rows
+
+
+def random_piece(numbers, most_rows=8, furthest=8):
+    """A sorted piece, with numbers that are often equal along the rows."""
+    many = numbers.randint(1, most_rows)
+    missing = sorted((numbers.randint(0, furthest) for _ in range(many)), reverse=True)
+    rows, reach, above = [], furthest, {}
+    for gone in missing:
+        reach = numbers.randint(gone, reach)
+        row = {}
+        for column in range(gone + 1, reach + 1):
+            least = max(row.get(column - 1, -5), above.get(column, -5) + 1)
+            row[column] = least + numbers.choice([0, 0, 0, 1, 2])
+        rows.append([row[column] for column in sorted(row)])
+        above = row
+    return missing, rows
+
+
+def small_words(most_letters, greatest):
+    """All words of so many letters at most, from 1 to `greatest`."""
+    for many in range(1, most_letters + 1):
+        for letters in itertools.product(range(1, greatest + 1), repeat=many):
+            yield list(letters)
+
+
+def ranked(word):
+    """The letters' places in their order, lesser ones first, of equal ones the earlier."""
+    order = sorted(range(len(word)), key=lambda at: (word[at], at))
+    return [order.index(at) + 1 for at in range(len(word))]
+
+
+def put_back(numbers, word):
+    """The letters of a word instead of their ranks, in lists of any depth."""
+    if isinstance(numbers, list):
+        return [put_back(number, word) for number in numbers]
+    return sorted(word)[numbers - 1]
+
+
+def put_by_words(rows, number):
+    """What `put_in` has to return, row by row; rows may be none, too."""
+    if not rows:
+        return [[number]], 1
+    greater = [other for other in rows[0] if other > number]
+    if not greater:
+        return [rows[0] + [number]] + rows[1:], 1
+    lesser = rows[0][:len(rows[0]) - len(greater)]
+    rest, grown = put_by_words(rows[1:], greater[0])
+    return [lesser + [number] + greater[1:]] + rest, grown + 1
+
+
+def straight_by_words(word):
+    """The straight rows of a word of any length, and the rows that grow."""
+    rows, order = [], []
+    for letter in word:
+        rows, grown = put_by_words(rows, letter)
+        order.append(grown)
+    return rows, order
+
+
+def lists_in(thing):
+    """All list objects in lists and tuples, also the thing itself, as often as they occur."""
+    if isinstance(thing, (list, tuple)):
+        found = [thing] if isinstance(thing, list) else []
+        for part in thing:
+            found += lists_in(part)
+        return found
+    return []
