@@ -1,6 +1,6 @@
 """The checks of arguments that several modules share."""
 
-from holeslides.errors import InvalidMissing, InvalidRows, InvalidShape, InvalidWord, NotSorted
+from holeslides.errors import InvalidMissing, InvalidNumber, InvalidRows, InvalidShape, InvalidWord, NotSorted
 
 # A shape or a piece has at most so many rows, and each reaches at most so far.
 MOST = 8
@@ -105,6 +105,19 @@ def check_straight(rows):
     check_ascending([0] * len(rows), rows)
 
 
+def check_unlike(rows):
+    """Raise NotSorted if a number stands twice in a straight piece, which is checked before."""
+    index = first_repeating(rows)
+    if index is not None:
+        raise NotSorted(index + 1)
+
+
+def check_number_below(number, many):
+    """Raise InvalidNumber if this is not the number, from 0, of one of so many things."""
+    if not is_whole(number) or not 0 <= number < many:
+        raise InvalidNumber(number)
+
+
 def check_word(word):
     """Raise InvalidWord if this is not a word."""
     if not isinstance(word, list) or not 1 <= len(word) <= MOST_LETTERS:
@@ -134,3 +147,16 @@ def fails_below(upper, row, first):
     has `first` numbers that have a missing cell above them.
     """
     return any(number <= above for above, number in zip(upper, row[first:]))
+
+
+def first_repeating(rows):
+    """The index of the first row in which a number stands that stands before in
+    it or in a row above; None if there is none.
+    """
+    seen = set()
+    for index, row in enumerate(rows):
+        for number in row:
+            if number in seen:
+                return index
+            seen.add(number)
+    return None

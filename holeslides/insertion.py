@@ -2,7 +2,7 @@
 
 from holeslides.checks import check_straight, check_word, is_one_of, is_whole
 from holeslides.errors import InvalidNumber, InvalidOrder, NoCorner
-from holeslides.shapes import corner_rows
+from holeslides.shapes import corner_rows, growing_rows
 
 
 def put_in(rows, number):
@@ -47,21 +47,14 @@ def check_growth(rows, order):
     """Raise InvalidOrder if rows cannot grow in this order until they are as long as these."""
     if not isinstance(order, list):
         raise InvalidOrder(None)
-    lengths = [0 for _ in rows]
+    shape = [len(numbers) for numbers in rows]
+    lengths = [0] * len(shape)
     for index, row in enumerate(order):
-        if not is_one_of(row, growing_rows(lengths, rows)):
+        if not is_one_of(row, growing_rows(lengths, shape)):
             raise InvalidOrder(index)
         lengths[row - 1] += 1
-    if lengths != [len(row) for row in rows]:
+    if lengths != shape:
         raise InvalidOrder(len(order))
-
-
-def growing_rows(lengths, rows):
-    """The rows that are shorter than both the one before and the same one among `rows`."""
-    return [
-        index + 1 for index, length in enumerate(lengths)
-        if length < len(rows[index]) and (index == 0 or length < lengths[index - 1])
-    ]
 
 
 def put_into(rows, number):

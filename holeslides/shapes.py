@@ -29,17 +29,31 @@ def hooks(shape):
 
 def count_sorted(shape):
     """The number of the sorted fillings of a shape by the numbers from 1 on."""
+    check_shape(shape)
+    return factorial(sum(shape)) // product_of_hooks(shape)
+
+
+def product_of_hooks(shape):
+    """The product of the hooks of all cells of a shape."""
     together = 1
     for row in hooks(shape):
         for hook in row:
             together = together * hook
-    return factorial(sum(shape)) // together
+    return together
 
 
 def corner_rows(lengths):
     """The rows, ascending, that have a last cell and none below it; rows without cells may come last."""
     below = lengths[1:] + [0]
     return [index + 1 for index, length in enumerate(lengths) if length > below[index]]
+
+
+def growing_rows(lengths, shape):
+    """The rows, ascending, that are shorter than both the one before and the same one of a greater shape."""
+    return [
+        index + 1 for index, length in enumerate(lengths)
+        if length < shape[index] and (index == 0 or length < lengths[index - 1])
+    ]
 
 
 def column_lengths(shape):

@@ -1,135 +1,27 @@
-"""What holds of the arguments and results of all functions of slides, words and insertion."""
+"""What holds of the arguments and results of all functions, but for those of shapes and pieces alone."""
 
 import copy
 import unittest
 
-from holeslides import insertion, slides, words
+from holeslides import insertion, listing, sinks, slides, turning, words
+from holeslides.board import Board
 from holeslides.errors import (
-    InvalidMissing, InvalidNumber, InvalidOrder, InvalidRows, InvalidWord, NoCorner, NoHole, NotAlike, NotSorted,
+    InvalidNumber, InvalidOrder, InvalidTable, InvalidWord, NoCorner, NoHole, NotAlike, NotSorted,
 )
-from tests.things import lists_in, no_lists, no_numbers
+from tests.things import lists_in
+from tests.wrong import (
+    GREATEST, MISSING, ROWS, SHAPE, STRAIGHT, UNLIKE, WORD, wrong, wrong_fillings, wrong_growths, wrong_listed,
+    wrong_missing, wrong_missing_within, wrong_numbers, wrong_orders_of_holes, wrong_rows, wrong_shapes,
+    wrong_straight, wrong_tables, wrong_unlike, wrong_words,
+)
 
-MISSING = [2, 1, 0]
-ROWS = [[2], [1, 4], [1, 3, 5]]
-STRAIGHT = [[1, 3, 3], [4, 5]]
-WORD = [1, 3, 5, 1, 4, 2]
 # Passed where no argument that comes after a wrong one may be looked at.
 LATER = [None, True, "x", [], [None], 10 ** 5000]
 
 
-def with_one_other(things, index, thing):
-    return things[:index] + [thing] + things[index + 1:]
-
-
-def wrong_missing():
-    """Wrong lists of missing cells, each with the error that it has to raise."""
-    for thing in no_lists() + [[], [0] * 9, [None] * 9]:
-        yield thing, InvalidMissing, "index", None
-    for thing in no_numbers() + [-1, 9, 10 ** 70, -10 ** 5000]:
-        for index in range(3):
-            yield with_one_other(MISSING, index, thing), InvalidMissing, "index", index
-    yield [0, 1], InvalidMissing, "index", 1
-    yield [5, 5, 3, 4, None], InvalidMissing, "index", 3
-    yield [5, None, 7], InvalidMissing, "index", 1
-
-
-def wrong_rows():
-    """Rows that do not fit MISSING."""
-    for thing in no_lists() + [[], ROWS[:2], ROWS + [[]], [None] * 4]:
-        yield thing, InvalidRows, "index", None
-    for index in range(3):
-        for thing in no_lists():
-            yield with_one_other(ROWS, index, thing), InvalidRows, "index", index
-        for thing in no_numbers():
-            yield with_one_other(ROWS, index, [thing]), InvalidRows, "index", index
-    yield [[2], [1, 4], [1, 3, True]], InvalidRows, "index", 2
-    yield [[1, 2, 3, 4, 5, 6, 7], [], []], InvalidRows, "index", 0
-    yield [[2], [1, 4, 5], None], InvalidRows, "index", 1
-    yield [[1], [2, 1], [1, 2, 3, 4]], InvalidRows, "index", 2
-    yield [[3, 2], [1], [1]], NotSorted, "row", 1
-    yield [[2], [4, 1], [3, 1]], NotSorted, "row", 2
-    yield [[2], [1, 2], [1, 3, 5]], NotSorted, "row", 2
-    yield [[2], [1, 4], [1, 1, 5]], NotSorted, "row", 3
-    yield [[2], [1, 4], [1, 3, 4]], NotSorted, "row", 3
-
-
-def wrong_straight():
-    """Rows that are not those of a straight piece."""
-    for thing in no_lists() + [[], [[1]] * 9, [None] * 9, [[row] for row in range(9)]]:
-        yield thing, InvalidRows, "index", None
-    for index in range(2):
-        for thing in no_lists() + [[]]:
-            yield with_one_other(STRAIGHT, index, thing), InvalidRows, "index", index
-        for thing in no_numbers():
-            yield with_one_other(STRAIGHT, index, [thing]), InvalidRows, "index", index
-            yield with_one_other(STRAIGHT, index, [7, thing]), InvalidRows, "index", index
-    yield [[]], InvalidRows, "index", 0
-    yield [list(range(9))], InvalidRows, "index", 0
-    yield [list(range(100000))], InvalidRows, "index", 0
-    yield [[1], [2, 3]], InvalidRows, "index", 1
-    yield [[1, 2], [3], [], [None]], InvalidRows, "index", 2
-    yield [[1, 2], [3], [4, 5], [None]], InvalidRows, "index", 2
-    yield [[2, 1], [3], [True]], InvalidRows, "index", 2
-    yield [[2, 1]], NotSorted, "row", 1
-    yield [[2, 1], [1]], NotSorted, "row", 1
-    yield [[1, 2], [2, 2]], NotSorted, "row", 2
-    yield [[1, 2], [1]], NotSorted, "row", 2
-    yield [[1, 4], [2, 3]], NotSorted, "row", 2
-    yield [[1, 2], [3], [2]], NotSorted, "row", 3
-
-
-def wrong_words():
-    for thing in no_lists() + [[], [1] * 41, [None] * 41, [1] * 100000]:
-        yield thing, InvalidWord, "index", None
-    for thing in no_numbers():
-        for index in range(len(WORD)):
-            yield with_one_other(WORD, index, thing), InvalidWord, "index", index
-        yield [1] * 39 + [thing], InvalidWord, "index", 39
-    yield [1, None, True, "x"], InvalidWord, "index", 1
-
-
-def wrong_orders_of_holes():
-    """Orders in which the holes of MISSING cannot be filled."""
-    for thing in no_lists():
-        yield thing, InvalidOrder, "index", None
-    for thing in no_numbers() + [0, -1, 4, 9, 10 ** 70, -10 ** 70]:
-        for index in range(3):
-            yield with_one_other([1, 2, 1], index, thing), InvalidOrder, "index", index
-        yield [2, 1, 1, thing], InvalidOrder, "index", 3
-    for order in [[], [1], [2], [1, 2], [2, 1]]:
-        yield order, InvalidOrder, "index", len(order)
-    yield [3], InvalidOrder, "index", 0
-    yield [1, 1, 2], InvalidOrder, "index", 1
-    yield [2, 2, 1], InvalidOrder, "index", 1
-    yield [1, 2, 2], InvalidOrder, "index", 2
-    yield [1, 2, 1, 1], InvalidOrder, "index", 3
-    yield [1, 2, 1, 1, None], InvalidOrder, "index", 3
-    yield [1, 3, None], InvalidOrder, "index", 1
-
-
-def wrong_growths():
-    """Orders in which the rows of STRAIGHT cannot grow."""
-    for thing in no_lists():
-        yield thing, InvalidOrder, "index", None
-    for thing in no_numbers() + [0, -1, 3, 9, 10 ** 70, -10 ** 70]:
-        for index in range(5):
-            yield with_one_other([1, 2, 1, 2, 1], index, thing), InvalidOrder, "index", index
-        yield [1, 1, 1, 2, 2, thing], InvalidOrder, "index", 5
-    for order in [[], [1], [1, 1], [1, 2], [1, 1, 1], [1, 1, 2, 2], [1, 1, 1, 2]]:
-        yield order, InvalidOrder, "index", len(order)
-    yield [2], InvalidOrder, "index", 0
-    yield [1, 2, 2, 1, 1], InvalidOrder, "index", 2
-    yield [1, 1, 1, 1], InvalidOrder, "index", 3
-    yield [1, 1, 2, 2, 2], InvalidOrder, "index", 4
-    yield [1, 2, 1, 2, 1, 1], InvalidOrder, "index", 5
-    yield [1, 1, 1, 2, 2, 2, None], InvalidOrder, "index", 5
-
-
-def wrong(kind, field, numbers):
-    """Things that are none of the numbers that are asked for; the field holds the thing itself."""
-    for thing in no_numbers() + no_lists() + numbers:
-        if type(thing) is not int or thing in numbers:
-            yield thing, kind, field, thing
+def listed(shape):
+    """All that `all_sorted` yields, in a list."""
+    return list(listing.all_sorted(shape))
 
 
 # Of each function valid arguments by their names, and for each name the wrong ones.
@@ -160,7 +52,23 @@ FUNCTIONS = [
     (insertion.pair_of, {"word": WORD}, {"word": wrong_words}),
     (insertion.word_from, {"rows": STRAIGHT, "order": [1, 2, 1, 2, 1]},
      {"rows": wrong_straight, "order": wrong_growths}),
+    (turning.least_out, {"rows": STRAIGHT}, {"rows": wrong_straight}),
+    (turning.freed, {"rows": STRAIGHT}, {"rows": wrong_straight}),
+    (turning.turned, {"rows": UNLIKE}, {"rows": wrong_unlike}),
+    (sinks.sorted_of, {"rows": [[5, 1, 3], [4, 2]]}, {"rows": wrong_fillings}),
+    (sinks.table_of, {"rows": [[5, 1, 3], [4, 2]]}, {"rows": wrong_fillings}),
+    (sinks.filling_from, {"rows": UNLIKE, "table": GREATEST}, {"rows": wrong_unlike, "table": wrong_tables}),
+    (sinks.count_fillings, {"shape": SHAPE}, {"shape": wrong_shapes}),
+    (sinks.table_numbered, {"shape": SHAPE, "number": 239},
+     {"shape": wrong_shapes, "number": lambda: wrong_numbers(240)}),
+    (listing.count_between, {"shape": SHAPE, "missing": [1, 1, 0]},
+     {"shape": wrong_shapes, "missing": wrong_missing_within}),
+    (listing.sorted_numbered, {"shape": SHAPE, "number": 20},
+     {"shape": wrong_shapes, "number": lambda: wrong_numbers(21)}),
+    (listing.sorted_number, {"rows": [[1, 3], [2, 4]]}, {"rows": wrong_listed}),
+    (listed, {"shape": SHAPE}, {"shape": wrong_shapes}),
 ]
+CHECKED = FUNCTIONS + [(Board, PIECE, WRONG_PIECE)]
 # More calls, of pieces and words that are short, long, empty or out of the ordinary.
 SAME = [5] * 40
 CALLS = [(function, valid) for function, valid, _ in FUNCTIONS] + [
@@ -193,6 +101,32 @@ CALLS = [(function, valid) for function, valid, _ in FUNCTIONS] + [
     (insertion.take_out, {"rows": [[1, 2], [3]], "row": 1}),
     (insertion.pair_of, {"word": [1]}),
     (insertion.word_from, {"rows": [[1]], "order": [1]}),
+    (turning.least_out, {"rows": [[1]]}),
+    (turning.least_out, {"rows": [[1, 1], [2, 2]]}),
+    (turning.freed, {"rows": [[1]]}),
+    (turning.turned, {"rows": [[1]]}),
+    (turning.turned, {"rows": [[1, 2, 3]]}),
+    (sinks.sorted_of, {"rows": [[1]]}),
+    (sinks.sorted_of, {"rows": [[1, 2], [3]]}),
+    (sinks.table_of, {"rows": [[1]]}),
+    (sinks.table_of, {"rows": [[1, 2], [3]]}),
+    (sinks.filling_from, {"rows": [[1]], "table": [[0]]}),
+    (sinks.filling_from, {"rows": UNLIKE, "table": [[0, 0, 0], [0, 0]]}),
+    (sinks.count_fillings, {"shape": [1]}),
+    (sinks.table_numbered, {"shape": [1], "number": 0}),
+    (sinks.table_numbered, {"shape": SHAPE, "number": 0}),
+    (listing.count_between, {"shape": SHAPE, "missing": [0, 0, 0]}),
+    (listing.count_between, {"shape": SHAPE, "missing": SHAPE}),
+    (listing.sorted_numbered, {"shape": [1], "number": 0}),
+    (listing.sorted_numbered, {"shape": SHAPE, "number": 0}),
+    (listing.sorted_number, {"rows": [[1]]}),
+    (listed, {"shape": [1]}),
+    (listed, {"shape": [2, 2, 2]}),
+]
+# The functions that return a whole number.
+NUMBERS = [
+    slides.count_orders, words.longest, words.longest_falling, sinks.count_fillings, listing.count_between,
+    listing.sorted_number,
 ]
 
 
@@ -205,14 +139,14 @@ class TestWrongArguments(unittest.TestCase):
             function(*arguments)
         error = caught.exception
         self.assertIs(type(error), kind)
-        if field != "index" and kind is not NotSorted:
+        if field != "index" and kind not in [NotSorted, InvalidTable]:
             self.assertIs(getattr(error, field), held)
         else:
             self.assertEqual(getattr(error, field), held)
             self.assertIs(type(getattr(error, field)), type(held))
 
     def test_each_wrong_argument_beside_right_ones(self):
-        for function, valid, wrongs in FUNCTIONS:
+        for function, valid, wrongs in CHECKED:
             names = list(valid)
             self.assertEqual(names, list(wrongs))
             for at, name in enumerate(names):
@@ -222,7 +156,7 @@ class TestWrongArguments(unittest.TestCase):
                     self.check(function, arguments, expected)
 
     def test_of_several_wrong_arguments_the_first_one_is_told(self):
-        for function, valid, wrongs in FUNCTIONS:
+        for function, valid, wrongs in CHECKED:
             names = list(valid)
             for at, name in enumerate(names[:-1]):
                 for later in LATER:
@@ -272,7 +206,7 @@ class TestWrongArguments(unittest.TestCase):
             self.check(insertion.take_out, [rows, row], [NoCorner, "row", row])
 
     def test_wrong_arguments_stay_as_they_are(self):
-        for function, valid, wrongs in FUNCTIONS:
+        for function, valid, wrongs in CHECKED:
             for at, name in enumerate(valid):
                 for thing, *_ in wrongs[name]():
                     arguments = list(valid.values())
@@ -331,9 +265,9 @@ class TestRightArguments(unittest.TestCase):
                 self.assertEqual([type(part) for part in answer], [list, list, int])
             elif function in [slides.straightened_by, insertion.pair_of]:
                 self.assertEqual([type(part) for part in answer], [list, list])
-            elif function in [insertion.put_in, insertion.take_out]:
+            elif function in [insertion.put_in, insertion.take_out, turning.least_out]:
                 self.assertEqual([type(part) for part in answer], [list, int])
-            elif function in [slides.count_orders, words.longest, words.longest_falling]:
+            elif function in NUMBERS:
                 self.assertIs(type(answer), int)
             elif function is words.are_alike:
                 self.assertIs(type(answer), bool)

@@ -4,36 +4,13 @@ import unittest
 
 from holeslides.insertion import pair_of, put_in, take_out, word_from
 from holeslides.shapes import corners, count_sorted
-from tests.things import all_shapes, put_by_words, small_straight, small_words, straight_by_words
+from tests.things import (
+    all_growths, all_shapes, lengths_of, put_by_words, random_growth, small_straight, small_words, straight_by_words,
+)
 
 
 def full_square():
     return [list(range(row, row + 8)) for row in range(8)]
-
-
-def lengths_of(rows):
-    return [len(row) for row in rows]
-
-
-def all_growths(shape):
-    """All orders in which rows can grow from nothing to a shape."""
-    if not shape:
-        yield []
-    for row in range(1, len(shape) + 1):
-        if row == len(shape) or shape[row - 1] > shape[row]:
-            rest = shape[:row - 1] + [shape[row - 1] - 1] + shape[row:]
-            for order in all_growths([length for length in rest if length > 0]):
-                yield order + [row]
-
-
-def random_growth(shape, numbers):
-    lengths, order = [0] * len(shape), []
-    while lengths != shape:
-        row = numbers.randrange(len(shape))
-        if lengths[row] < (min(shape[row], lengths[row - 1]) if row else shape[row]):
-            lengths[row] += 1
-            order.append(row + 1)
-    return order
 
 
 class TestExamples(unittest.TestCase):

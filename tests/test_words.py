@@ -5,26 +5,11 @@ import unittest
 from holeslides.errors import NotAlike
 from holeslides.insertion import pair_of
 from holeslides.words import a_pick, are_alike, chain, exchanges, longest, longest_falling, straight_of
-from tests.things import put_back, ranked, small_words, straight_by_words, unsorted_rows
+from tests.things import (
+    great_words, put_back, random_words, ranked, small_words, straight_by_words, unsorted_rows,
+)
 
 THE_WORD = [1, 3, 5, 1, 4, 2]
-
-
-def random_words(many, least, most, greatest):
-    numbers = random.Random(many)
-    for _ in range(many):
-        yield [numbers.randint(1, greatest) for _ in range(numbers.randint(least, most))]
-
-
-def great_words():
-    """Words of 40 letters: all unlike, all equal, ascending, falling, mixed."""
-    numbers = random.Random(40)
-    unlike = list(range(1, 41))
-    numbers.shuffle(unlike)
-    mixed = [numbers.randint(1, 9) for _ in range(40)]
-    great = [10 ** 59 + letter for letter in unlike]
-    stairs = [10 * (letter % 7) - letter for letter in range(40)]
-    return [unlike, [6] * 40, list(range(40)), list(range(40, 0, -1)), mixed, great, stairs]
 
 
 def exchanges_by_words(word):

@@ -1,6 +1,7 @@
 """Things that several tests use: wrong arguments, shapes, pieces cell by cell, words."""
 
 import itertools
+import random
 
 
 class LikeAList:
@@ -182,3 +183,96 @@ def lists_in(thing):
             found += lists_in(part)
         return found
     return []
+
+
+def great_pieces(many):
+    numbers = random.Random(many)
+    return [random_piece(numbers) for _ in range(many)]
+
+
+def lengths_of(rows):
+    return [len(row) for row in rows]
+
+
+def all_growths(shape):
+    """All orders in which rows can grow from nothing to a shape."""
+    if not shape:
+        yield []
+    for row in range(1, len(shape) + 1):
+        if row == len(shape) or shape[row - 1] > shape[row]:
+            rest = shape[:row - 1] + [shape[row - 1] - 1] + shape[row:]
+            for order in all_growths([length for length in rest if length > 0]):
+                yield order + [row]
+
+
+def random_growth(shape, numbers):
+    lengths, order = [0] * len(shape), []
+    while lengths != shape:
+        row = numbers.randrange(len(shape))
+        if lengths[row] < (min(shape[row], lengths[row - 1]) if row else shape[row]):
+            lengths[row] += 1
+            order.append(row + 1)
+    return order
+
+
+def random_words(many, least, most, greatest):
+    numbers = random.Random(many)
+    for _ in range(many):
+        yield [numbers.randint(1, greatest) for _ in range(numbers.randint(least, most))]
+
+
+def great_words():
+    """Words of 40 letters: all unlike, all equal, ascending, falling, mixed."""
+    numbers = random.Random(40)
+    unlike = list(range(1, 41))
+    numbers.shuffle(unlike)
+    mixed = [numbers.randint(1, 9) for _ in range(40)]
+    great = [10 ** 59 + letter for letter in unlike]
+    stairs = [10 * (letter % 7) - letter for letter in range(40)]
+    return [unlike, [6] * 40, list(range(40)), list(range(40, 0, -1)), mixed, great, stairs]
+
+
+def random_shape(numbers):
+    return sorted((numbers.randint(1, 8) for _ in range(numbers.randint(1, 8))), reverse=True)
+
+
+def straight_that_grows(order, many, ascending):
+    """The straight piece in whose rows the numbers stand, one after the other."""
+    rows = [[] for _ in range(many)]
+    for row, number in zip(order, ascending):
+        rows[row - 1].append(number)
+    return rows
+
+
+def random_straight(shape, numbers, unlike=False):
+    """A straight piece of a shape, whose numbers can be equal along the rows."""
+    order = random_growth(shape, numbers)
+    ascending, last = [], numbers.choice([-10 ** 59, -20, 1])
+    for at, row in enumerate(order):
+        # An equal number stands farther to the right, and never below the one before.
+        if unlike or (at > 0 and row > order[at - 1]) or numbers.random() < 0.5:
+            last += numbers.choice([1, 2, 10 ** 57])
+        ascending.append(last)
+    return straight_that_grows(order, len(shape), ascending)
+
+
+def great_straight(many, unlike=False):
+    """Straight pieces of up to 64 numbers, one of which fills eight rows of eight cells."""
+    numbers = random.Random(many)
+    shapes = [[8] * 8] + [random_shape(numbers) for _ in range(many - 1)]
+    return [random_straight(shape, numbers, unlike) for shape in shapes]
+
+
+def unlike_straight(most_numbers):
+    """All straight pieces with the numbers from 1 on, each once, of so many numbers at most."""
+    return [
+        straight_that_grows(order, len(shape), range(1, sum(shape) + 1))
+        for shape in all_shapes(most_numbers, most_numbers) if sum(shape) <= most_numbers
+        for order in all_growths(shape)
+    ]
+
+
+def roles_exchanged(word):
+    """The numbers of a word, in which the least and the greatest one have changed their roles, and so on."""
+    ascending = sorted(word)
+    return [ascending[len(word) - 1 - ascending.index(letter)] for letter in word]
